@@ -1,0 +1,1 @@
+"""Oddbases: whole numbers, and pairs of them, told in odd ways."""
