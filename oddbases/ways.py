@@ -1,7 +1,7 @@
 """The six ways: their weights and figures, their ratios, their numbers, and how a total is split."""
 
 from oddbases.errors import NoRatio, NoWay
-from oddbases.pairs import as_pair, is_pair, is_whole, multiplied
+from oddbases.pairs import added, as_pair, is_pair, is_whole, multiplied
 
 
 def bounded(number, least, most):
@@ -11,21 +11,26 @@ def bounded(number, least, most):
     return number
 
 
-def weight_by_ratios(way, first, place):
-    weight = first
-    for beneath in range(place):
-        weight = multiplied(way.ratio(beneath), weight)
-    return weight
-
-
 class Way:
     # Here stands what most ways have in common; a way that differs says so in its own class.
+
+    def nought(self):
+        return 0
 
     def low(self, place):
         return 0
 
+    def weights(self, many):
+        # Each weight is made of the one ahead, so those of a whole row are reckoned in one go.
+        weights = []
+        weight = added(self.nought(), 1)
+        for place in range(many):
+            weights.append(weight)
+            weight = multiplied(self.ratio(place), weight)
+        return weights
+
     def weight(self, place):
-        return weight_by_ratios(self, 1, place)
+        return self.weights(place + 1)[place]
 
     def split(self, total, place):
         # A place has as many figures as its ratio leaves rests, so just one figure has the total's rest.
@@ -98,15 +103,17 @@ class Falling(Way):
     def high(self, place):
         return self.most
 
-    def weight(self, place):
+    def weights(self, many):
         # With a 1 ahead of place 0, the weight M + 1 at place 1 comes by the same rule as the later ones.
+        weights = []
         ahead = 1
         weight = 1
-        for beneath in range(place):
+        for place in range(many):
+            weights.append(weight)
             following = self.most * weight + ahead
             ahead = weight
             weight = following
-        return weight
+        return weights
 
     def ratio(self, place):
         raise NoRatio("a falling way has no ratio")
@@ -119,11 +126,11 @@ class Pairs(Way):
     def __init__(self, most):
         self.most = bounded(most, 1, 9)
 
+    def nought(self):
+        return (0, 0)
+
     def high(self, place):
         return self.most * self.most
-
-    def weight(self, place):
-        return weight_by_ratios(self, (1, 0), place)
 
     def ratio(self, place):
         return (-self.most, 1)

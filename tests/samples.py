@@ -1,4 +1,6 @@
-"""Ways and numbers that several tests go through."""
+"""Ways, numbers and rows that several tests go through."""
+
+import random
 
 from oddbases.ways import Balanced, Below, Falling, Growing, Pairs, Plain
 
@@ -11,6 +13,9 @@ SORTS = (
     (Falling, "most", 1, 9),
     (Pairs, "most", 1, 9),
 )
+ALL = (Plain, Below, Balanced, Growing, Falling, Pairs)
+WITH_RATIO = (Plain, Below, Balanced, Growing, Pairs)
+FROM_NOUGHT_ON = (Plain, Growing, Falling)
 
 HUGE = 10 ** 60 + 7
 VAST = 3 * 10 ** 298 + 1234567
@@ -33,3 +38,111 @@ def ways_of(*sorts):
 
 def told(way):
     return f"{type(way).__name__} {vars(way)}"
+
+
+def chance_of(seed):
+    # The same seed draws the same things each time.
+    return random.Random(seed)
+
+
+def without_end_noughts(row):
+    row = list(row)
+    while row and row[-1] == 0:
+        del row[-1]
+    return row
+
+
+def figures_above(way, place, row):
+    # The figures that a place may have in a writing of which the row is what lies beneath.
+    figures = range(way.low(place), way.high(place) + 1)
+    if isinstance(way, Falling) and row and row[-1] != 0:
+        return [figure for figure in figures if figure != way.most]
+    return list(figures)
+
+
+def small_writings(way, least_many):
+    # Every writing of at most as many places as it takes to have so many writings.
+    rows = [()]
+    place = 0
+    while len(rows) < least_many:
+        rows = [row + (figure,) for row in rows for figure in figures_above(way, place, row)]
+        place += 1
+    return [without_end_noughts(row) for row in rows]
+
+
+def drawn_writing(way, places, chance):
+    row = []
+    for place in range(places):
+        row.append(chance.choice(figures_above(way, place, row)))
+    if row and row[-1] == 0:
+        # In Falling by 1 the last figure can only be 1, and that with 0 beneath.
+        row[-2:] = [0, 1][-len(row):]
+    return row
+
+
+def drawn_thing(chance, figures):
+    return chance.randint(-10 ** chance.randint(0, figures), 10 ** chance.randint(0, figures))
+
+
+def next_weight(way, weights):
+    # What the document says of the weight behind these, way by way.
+    place = len(weights) - 1
+    if isinstance(way, Plain):
+        return way.base * weights[-1]
+    if isinstance(way, Below):
+        return -way.base * weights[-1]
+    if isinstance(way, Balanced):
+        return (2 * way.half + 1) * weights[-1]
+    if isinstance(way, Growing):
+        return (way.first + place) * weights[-1]
+    if isinstance(way, Pairs):
+        x, y = weights[-1]
+        return (-way.most * x - y, x - way.most * y)
+    if place == 0:
+        return way.most + 1
+    return way.most * weights[-1] + weights[-2]
+
+
+def weights_by_hand(way, many):
+    weights = [(1, 0) if isinstance(way, Pairs) else 1]
+    while len(weights) < many:
+        weights.append(next_weight(way, weights))
+    return weights[:many]
+
+
+def worth_by_hand(way, row):
+    # In Pairs the row may hold pairs, too.
+    weights = weights_by_hand(way, len(row))
+    if not isinstance(way, Pairs):
+        return sum(thing * weight for thing, weight in zip(row, weights))
+    first = second = 0
+    for thing, (c, d) in zip(row, weights):
+        a, b = thing if isinstance(thing, tuple) else (thing, 0)
+        first += a * c - b * d
+        second += a * d + b * c
+    return (first, second)
+
+
+def drawn_totals(way, length, figures, chance):
+    things = [drawn_thing(chance, figures) for place in range(length)]
+    if not isinstance(way, Pairs):
+        return things
+    return [chance.choice((thing, (thing, drawn_thing(chance, figures)))) for thing in things]
+
+
+def totals_for(way, chance):
+    # Rows of totals, small and large, some with 0s at their end; the last ones are told by the way itself.
+    rows = [[], [0], [0, 0, 0], [1], [-1], [0, -1, 0]]
+    for length in (1, 1, 2, 2, 3, 4, 6, 12, 60):
+        for figures in (0, 1, 3, 32):
+            row = drawn_totals(way, length, figures, chance)
+            rows += [row, row + [0] * chance.randint(1, 4)]
+    rows.append(drawn_totals(way, 300, 299, chance))
+    rows.append(drawn_writing(way, 40, chance))
+    if isinstance(way, Pairs):
+        rows += [[(0, 0)], [(0, 0), (0, 0)], [0, (0, 0)], [(0, 1)], [(0, -1), 0], [(-HUGE, HUGE)], [5, (1, -1), -7]]
+    return rows
+
+
+def is_too_less(way, row):
+    return isinstance(way, (Plain, Growing)) and worth_by_hand(way, row) < 0

@@ -3,7 +3,7 @@
 import unittest
 
 from oddbases.ways import Balanced, Below, Falling, Growing, Pairs, Plain
-from samples import HUGE, VAST, told, ways_of
+from samples import ALL, HUGE, VAST, told, ways_of
 
 BELOW_NOUGHT = (-1, -2, -61, -HUGE, -VAST)
 FROM_NOUGHT_ON = (0, 1, 2, 61, HUGE, VAST)
@@ -32,7 +32,7 @@ class Has(unittest.TestCase):
             self.assert_has(way, FROM_NOUGHT_ON + BELOW_NOUGHT, False)
 
     def test_a_truth_is_no_whole_number(self):
-        for way in ways_of(Plain, Below, Balanced, Growing, Falling, Pairs):
+        for way in ways_of(*ALL):
             self.assert_has(way, (True, False, (True, 0), (0, False)), False)
 
 

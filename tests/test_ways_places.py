@@ -3,20 +3,15 @@
 import math
 import unittest
 
-from oddbases import errors
+from oddbases.errors import NoWay
 from oddbases.ways import Balanced, Below, Falling, Growing, Pairs, Plain, Way
-from samples import HUGE, SORTS, VAST, numbers_of, told, ways_of
+from refusals import RefusalCase
+from samples import ALL, HUGE, SORTS, VAST, numbers_of, told, ways_of, weights_by_hand
 
 PLACES = (0, 1, 2, 3, 10, 99, 298, 299, 300)
 
-OTHER_ERRORS = tuple(
-    found
-    for found in vars(errors).values()
-    if isinstance(found, type) and found not in (errors.OddError, errors.NoWay)
-)
 
-
-class Bounds(unittest.TestCase):
+class Bounds(RefusalCase):
     def test_each_way_stands_straight_under_way(self):
         for sort, name, least, most in SORTS:
             self.assertEqual(sort.__bases__, (Way,))
@@ -34,22 +29,14 @@ class Bounds(unittest.TestCase):
             near = [least - 1, most + 1, least - 2, most + 2, 0, -1, -least, -most]
             for number in near + [61, 100, -60, HUGE, -HUGE, VAST, -VAST, 10 ** 5000]:
                 with self.subTest(sort=sort, far=number.bit_length(), number=number % 10 ** 9):
-                    self.assert_no_way(sort, number)
-
-    def assert_no_way(self, sort, number):
-        for caught in (errors.NoWay, errors.OddError, ValueError):
-            with self.assertRaises(caught) as refusal:
-                sort(number)
-            self.assertIs(type(refusal.exception), errors.NoWay)
-            self.assertNotIsInstance(refusal.exception, OTHER_ERRORS)
+                    self.assert_refused(NoWay, sort, number)
 
     def test_a_way_made_behind_a_refusal_is_made_as_ever(self):
         for sort, name, least, most in SORTS:
             for number in numbers_of(sort, least, most):
                 with self.subTest(sort=sort, number=number):
                     ahead = sort(number)
-                    with self.assertRaises(errors.NoWay):
-                        sort(most + 1)
+                    self.assert_refused(NoWay, sort, most + 1)
                     behind = sort(number)
                     self.assertEqual(getattr(behind, name), number)
                     for place in (0, 1, 7):
@@ -124,36 +111,13 @@ class Weights(unittest.TestCase):
                 wanted = math.factorial(way.first + place - 1) // math.factorial(way.first - 1)
                 self.assertEqual(way.weight(place), wanted)
 
-    def test_each_weight_but_in_falling_is_made_of_the_one_ahead(self):
-        def after(way, place, ahead):
-            if isinstance(way, Plain):
-                return way.base * ahead
-            if isinstance(way, Below):
-                return -way.base * ahead
-            if isinstance(way, Balanced):
-                return (2 * way.half + 1) * ahead
-            if isinstance(way, Growing):
-                return (way.first + place) * ahead
-            return (-way.most * ahead[0] - ahead[1], ahead[0] - way.most * ahead[1])
-
-        for way in ways_of(Plain, Below, Balanced, Growing, Pairs):
+    def test_each_weight_is_made_of_the_ones_ahead(self):
+        for way in ways_of(*ALL):
             with self.subTest(way=told(way)):
-                ahead = (1, 0) if isinstance(way, Pairs) else 1
-                self.assertEqual(way.weight(0), ahead)
-                for place in range(300):
-                    ahead = after(way, place, ahead)
-                    self.assertEqual(way.weight(place + 1), ahead)
-
-    def test_each_weight_in_falling_is_made_of_the_two_ahead(self):
-        for way in ways_of(Falling):
-            with self.subTest(way=told(way)):
-                wanted = [1, way.most + 1]
-                for place in range(2, 301):
-                    wanted.append(way.most * wanted[-1] + wanted[-2])
-                self.assertEqual([way.weight(place) for place in range(301)], wanted)
+                self.assertEqual([way.weight(place) for place in range(301)], weights_by_hand(way, 301))
 
     def test_asked_in_any_order_and_twice(self):
-        for way in ways_of(Plain, Below, Balanced, Growing, Falling, Pairs):
+        for way in ways_of(*ALL):
             with self.subTest(way=told(way)):
                 number = dict(vars(way))
                 rising = [type(way)(*number.values()).weight(place) for place in PLACES]

@@ -2,15 +2,16 @@
 
 import unittest
 
-from oddbases.errors import NoRatio, OddError
+from oddbases.errors import NoRatio
 from oddbases.pairs import multiplied
 from oddbases.ways import Balanced, Below, Falling, Growing, Pairs, Plain
+from refusals import RefusalCase
 from samples import told, ways_of
 
 PLACES = (0, 1, 2, 3, 17, 150, 299, 300)
 
 
-class Ratio(unittest.TestCase):
+class Ratio(RefusalCase):
     def assert_ratio(self, way, wanted):
         for place in PLACES + PLACES[::-1]:
             with self.subTest(way=told(way), place=place):
@@ -40,10 +41,8 @@ class Ratio(unittest.TestCase):
     def test_falling_has_none(self):
         for way in ways_of(Falling):
             for place in PLACES:
-                for caught in (NoRatio, OddError, ValueError):
-                    with self.subTest(way=told(way), place=place), self.assertRaises(caught) as refusal:
-                        way.ratio(place)
-                    self.assertIs(type(refusal.exception), NoRatio)
+                with self.subTest(way=told(way), place=place):
+                    self.assert_refused(NoRatio, way.ratio, place)
 
     def test_the_next_weight_is_the_ratio_times_the_weight(self):
         for way in ways_of(Plain, Below, Balanced, Growing, Pairs):

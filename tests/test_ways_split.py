@@ -2,8 +2,9 @@
 
 import unittest
 
-from oddbases.errors import NoRatio, OddError
+from oddbases.errors import NoRatio
 from oddbases.ways import Balanced, Below, Falling, Growing, Pairs, Plain
+from refusals import RefusalCase
 from samples import HUGE, VAST, told, ways_of
 
 PLACES = (0, 1, 2, 9, 300)
@@ -106,15 +107,13 @@ class SplitInPairs(unittest.TestCase):
                         self.assertEqual(way.split((figure, 0), place), (figure, (0, 0)))
 
 
-class SplitInFalling(unittest.TestCase):
+class SplitInFalling(RefusalCase):
     def test_refused(self):
         for way in ways_of(Falling):
             for total in (0, 1, -1, way.most, way.most + 1, HUGE, -VAST):
                 for place in PLACES:
-                    for caught in (NoRatio, OddError, ValueError):
-                        with self.subTest(way=told(way), total=total), self.assertRaises(caught) as refusal:
-                            way.split(total, place)
-                        self.assertIs(type(refusal.exception), NoRatio)
+                    with self.subTest(way=told(way), total=total, place=place):
+                        self.assert_refused(NoRatio, way.split, total, place)
 
 
 if __name__ == "__main__":
