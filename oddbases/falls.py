@@ -3,7 +3,6 @@
 from oddbases.errors import NoFalling, TooLess
 from oddbases.rows import trimmed
 from oddbases.ways import Falling
-from oddbases.writings import worth, written
 
 
 def held_to_be_a_heap(way, heap):
@@ -29,13 +28,11 @@ def changes(way, step):
     return parted
 
 
-def behind_step(way, heap, step):
-    after = list(heap)
-    while len(after) < step[1] + 2:
-        after.append(0)
+def do_steps(way, heap, step, many):
+    while len(heap) < step[1] + 2:
+        heap.append(0)
     for place, things in changes(way, step):
-        after[place] += things
-    return trimmed(after)
+        heap[place] += many * things
 
 
 def step_at(way, heap, place):
@@ -47,31 +44,45 @@ def step_at(way, heap, place):
     return None
 
 
-def steps(way, heap):
+def how_often(way, heap, step):
+    # No more than can be done one behind the other.
+    place = step[1]
+    if step[0] == "up":
+        return min(heap[place] // way.most, heap[place - 1])
+    return heap[place] // (way.most + 1)
+
+
+def steps_and_writing(way, heap):
     # Why this ends: count a thing at place k as k + 1; where the most is 1, as 7 at place 0 and else as 4 k + 8.
     # Every step makes that count less. And where no step can be done any more, the heap is a writing.
     held_to_be_a_heap(way, heap)
     done = []
-    left = heap
+    left = list(heap)
     place = len(left) - 1
     while place >= 0:
         step = step_at(way, left, place)
         if step is None:
             place -= 1
         else:
-            done.append(step)
-            left = behind_step(way, left, step)
+            # A step goes as often as it can at once: else heaps of many things take far longer.
+            many = how_often(way, left, step)
+            done.extend([step] * many)
+            do_steps(way, left, step, many)
             # A step at a place opens none further above than two places.
             place = min(place + 2, len(left) - 1)
-    return done
+    return (done, trimmed(left))
+
+
+def steps(way, heap):
+    return steps_and_writing(way, heap)[0]
 
 
 def stepped(way, heap, step):
     held_to_be_a_heap(way, heap)
-    return behind_step(way, heap, step)
+    after = list(heap)
+    do_steps(way, after, step, 1)
+    return trimmed(after)
 
 
 def fallen(way, heap):
-    # Every step leaves the worth as it was, and a number has just one writing: so no step need be done.
-    held_to_be_a_heap(way, heap)
-    return written(way, worth(way, heap))
+    return steps_and_writing(way, heap)[1]

@@ -1,6 +1,7 @@
-"""Writings: which rows are ones, what a row is worth, and how a number is written."""
+"""Writings: which rows are ones, what a row is worth, and how a number or a row is written."""
 
-from oddbases.errors import NoNumber
+from oddbases.errors import NoNumber, NoWriting
+from oddbases.falls import fallen
 from oddbases.pairs import added, multiplied
 from oddbases.rows import trimmed
 from oddbases.settling import settled
@@ -29,6 +30,12 @@ def is_writing(way, row):
     return has_figures_alone(way, row)
 
 
+def held_to_be_writings(way, rows):
+    for row in rows:
+        if not is_writing(way, row):
+            raise NoWriting("the row is no writing of the way")
+
+
 def worth(way, row):
     number = way.nought()
     for thing, weight in zip(row, way.weights(len(row))):
@@ -54,3 +61,10 @@ def written(way, number):
     if isinstance(way, Falling):
         return written_by_weights(way, number)
     return settled(way, [number])
+
+
+def written_row(way, row):
+    # Figure by figure, however long the row is; in Falling of a row without a thing below 0.
+    if isinstance(way, Falling):
+        return fallen(way, row)
+    return settled(way, row)

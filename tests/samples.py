@@ -15,6 +15,7 @@ SORTS = (
 )
 ALL = (Plain, Below, Balanced, Growing, Falling, Pairs)
 WITH_RATIO = (Plain, Below, Balanced, Growing, Pairs)
+OF_WHOLES = (Plain, Below, Balanced, Growing, Falling)
 FROM_NOUGHT_ON = (Plain, Growing, Falling)
 
 HUGE = 10 ** 60 + 7
@@ -80,6 +81,39 @@ def drawn_writing(way, places, chance):
     return row
 
 
+def edge_writings(way, places):
+    # The figures at their bounds, or all 0 but the last one.
+    bounds = []
+    for side in (0, -1):
+        row = []
+        for place in range(places):
+            row.append(figures_above(way, place, row)[side])
+        bounds.append(without_end_noughts(row))
+    return bounds + [[0] * (places - 1) + [1]] if places else [[]]
+
+
+def writings_for(way, lengths, chance):
+    rows = []
+    for places in lengths:
+        rows += edge_writings(way, places) + [drawn_writing(way, places, chance)]
+    return rows
+
+
+def no_writings(way, places, chance):
+    # Rows of so many places, each with one fault: at either end, and at a place between.
+    rows = [drawn_writing(way, places - 1, chance) + [0]]
+    for place in sorted({0, chance.randrange(places), places - 1}):
+        for figure in (way.low(place) - 1, way.high(place) + 1, -HUGE, VAST):
+            row = drawn_writing(way, places, chance)
+            row[place] = figure
+            rows.append(row)
+        if isinstance(way, Falling) and place > 0:
+            row = drawn_writing(way, places, chance)
+            row[place - 1:place + 1] = [chance.randint(1, way.most), way.most]
+            rows.append(row)
+    return rows
+
+
 def drawn_thing(chance, figures):
     return chance.randint(-10 ** chance.randint(0, figures), 10 ** chance.randint(0, figures))
 
@@ -121,6 +155,25 @@ def worth_by_hand(way, row):
         first += a * c - b * d
         second += a * d + b * c
     return (first, second)
+
+
+def sum_by_hand(one, other):
+    if isinstance(one, tuple):
+        return (one[0] + other[0], one[1] + other[1])
+    return one + other
+
+
+def difference_by_hand(one, other):
+    if isinstance(one, tuple):
+        return (one[0] - other[0], one[1] - other[1])
+    return one - other
+
+
+def product_by_hand(one, other):
+    if isinstance(one, tuple):
+        (a, b), (c, d) = one, other
+        return (a * c - b * d, a * d + b * c)
+    return one * other
 
 
 def drawn_totals(way, length, figures, chance):
