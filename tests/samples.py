@@ -15,6 +15,7 @@ SORTS = (
 )
 ALL = (Plain, Below, Balanced, Growing, Falling, Pairs)
 WITH_RATIO = (Plain, Below, Balanced, Growing, Pairs)
+WITH_ONE_RATIO = (Plain, Below, Balanced, Pairs)
 OF_WHOLES = (Plain, Below, Balanced, Growing, Falling)
 FROM_NOUGHT_ON = (Plain, Growing, Falling)
 

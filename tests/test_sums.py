@@ -1,4 +1,4 @@
-"""[15] Sums, differences and products of writings; [3] (c) they are those of the numbers, for writings of any length."""
+"""[15] Sums, differences and products of writings; [3] (c) they are those of the numbers, whatever their length."""
 
 import unittest
 
